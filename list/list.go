@@ -1,0 +1,32 @@
+// Package list asks the elements of lists of whatever type.
+package list
+
+// All is true of an empty list, whatever is asked.
+func All[T any](l []T, holds func(T) bool) bool {
+	for _, x := range l {
+		if !holds(x) {
+			return false
+		}
+	}
+	return true
+}
+
+// Any is false of an empty list, whatever is asked.
+func Any[T any](l []T, holds func(T) bool) bool {
+	for _, x := range l {
+		if holds(x) {
+			return true
+		}
+	}
+	return false
+}
+
+// EmptyOrAny is for lists that narrow only if something stands in them.
+func EmptyOrAny[T any](l []T, holds func(T) bool) bool {
+	return len(l) == 0 || Any(l, holds)
+}
+
+// FewAll asks the length first: of a list that is too long nothing more need be known.
+func FewAll[T any](l []T, most int, holds func(T) bool) bool {
+	return len(l) <= most && All(l, holds)
+}

@@ -1,0 +1,49 @@
+package list
+
+import "testing"
+
+func even(n int) bool { return n%2 == 0 }
+
+func TestLists(t *testing.T) {
+	for _, x := range []struct {
+		l                    []int
+		all, any, emptyOrAny bool
+	}{
+		{nil, true, false, true},
+		{[]int{}, true, false, true},
+		{[]int{1}, false, false, false},
+		{[]int{2}, true, true, true},
+		{[]int{2, 1}, false, true, true},
+		{[]int{1, 2}, false, true, true},
+		{[]int{2, 4}, true, true, true},
+		{[]int{1, 3}, false, false, false},
+	} {
+		if got := All(x.l, even); got != x.all {
+			t.Errorf("All(%v) = %v", x.l, got)
+		}
+		if got := Any(x.l, even); got != x.any {
+			t.Errorf("Any(%v) = %v", x.l, got)
+		}
+		if got := EmptyOrAny(x.l, even); got != x.emptyOrAny {
+			t.Errorf("EmptyOrAny(%v) = %v", x.l, got)
+		}
+	}
+}
+
+func TestFewAll(t *testing.T) {
+	for _, x := range []struct {
+		l    []string
+		most int
+		want bool
+	}{
+		{nil, 0, true},
+		{[]string{"a"}, 0, false},
+		{[]string{"a", "b"}, 2, true},
+		{[]string{"a", ""}, 2, false},
+		{[]string{"a", "b", "c"}, 2, false},
+	} {
+		if got := FewAll(x.l, x.most, func(s string) bool { return s != "" }); got != x.want {
+			t.Errorf("FewAll(%q, %d) = %v", x.l, x.most, got)
+		}
+	}
+}

@@ -1,0 +1,160 @@
+package palisade
+
+import (
+	"math/rand/v2"
+	"testing"
+
+	"palisade/api"
+)
+
+// The model reads the document's words anew: blocks as ranges, labels bit by bit, and nothing shared with the program.
+
+func modelBlock(b api.Block, ip int) bool {
+	size := 1
+	for range 32 - b.Bits {
+		size *= 2
+	}
+	return ip >= b.Base && ip < b.Base+size
+}
+
+func modelSelects(s api.Selector, labels int) bool {
+	for bit := 1; bit <= 128; bit *= 2 {
+		has := labels&bit > 0
+		if s.Need&bit > 0 && !has || s.Ban&bit > 0 && has {
+			return false
+		}
+	}
+	return true
+}
+
+func modelPeer(p api.Peer, space, ip int, pods []api.Pod) bool {
+	if p.Kind == api.Blocks {
+		for _, b := range p.Excepts {
+			if modelBlock(b, ip) {
+				return false
+			}
+		}
+		return modelBlock(p.Block, ip)
+	}
+	for _, q := range pods {
+		inSpace := p.Spaces == 0 && q.Space == space || p.Spaces&[]int{1, 2, 4, 8}[q.Space] > 0
+		if q.Ip == ip && inSpace && modelSelects(p.Selector, q.Labels) {
+			return true
+		}
+	}
+	return false
+}
+
+func modelRule(r api.Rule, space, far int, pods []api.Pod, p api.Packet) bool {
+	peers, ports := len(r.Peers) == 0, len(r.Ports) == 0
+	for _, q := range r.Peers {
+		peers = peers || modelPeer(q, space, far, pods)
+	}
+	for _, q := range r.Ports {
+		ports = ports || (q.Proto == 0 || q.Proto == p.Proto) && p.Port >= q.From && p.Port <= q.To
+	}
+	return peers && ports
+}
+
+func modelAllowed(c api.Cluster, p api.Packet) bool {
+	held := map[string]bool{}
+	open := map[string]bool{}
+	for _, q := range c.Pods {
+		for _, l := range c.Policies {
+			if l.Space != q.Space || !modelSelects(l.Selector, q.Labels) {
+				continue
+			}
+			if p.Src == q.Ip && (l.Ways == 1 || l.Ways == 3) {
+				held["out"] = true
+				for _, r := range l.Outs {
+					open["out"] = open["out"] || modelRule(r, l.Space, p.Dst, c.Pods, p)
+				}
+			}
+			if p.Dst == q.Ip && (l.Ways == 2 || l.Ways == 3) {
+				held["in"] = true
+				for _, r := range l.Ins {
+					open["in"] = open["in"] || modelRule(r, l.Space, p.Src, c.Pods, p)
+				}
+			}
+		}
+	}
+	return (!held["out"] || open["out"]) && (!held["in"] || open["in"])
+}
+
+// maker makes small clusters, so that their parts often meet; its seed is fixed.
+type maker struct{ *rand.Rand }
+
+func (m maker) selector() api.Selector {
+	return api.Selector{Need: m.IntN(4) & m.IntN(4), Ban: m.IntN(4) & m.IntN(4) & m.IntN(4)}
+}
+
+func (m maker) block() api.Block {
+	rest := m.IntN(6)
+	if m.IntN(16) == 0 {
+		rest = 32
+	}
+	return api.Block{Base: m.IntN(32) >> rest << rest, Bits: 32 - rest}
+}
+
+func (m maker) peer() api.Peer {
+	if m.IntN(2) == 0 {
+		return api.Peer{Kind: api.Pods, Selector: m.selector(), Spaces: m.IntN(16) * m.IntN(2)}
+	}
+	p := api.Peer{Kind: api.Blocks, Block: m.block()}
+	for range m.IntN(3) {
+		p.Excepts = append(p.Excepts, m.block())
+	}
+	return p
+}
+
+func (m maker) rule() api.Rule {
+	var r api.Rule
+	for range m.IntN(3) {
+		r.Peers = append(r.Peers, m.peer())
+	}
+	for range m.IntN(3) {
+		from := m.IntN(4)
+		r.Ports = append(r.Ports, api.Port{Proto: m.IntN(3), From: from, To: from + m.IntN(3)})
+	}
+	return r
+}
+
+func (m maker) cluster() api.Cluster {
+	var c api.Cluster
+	for i, ip := range m.Perm(32)[:m.IntN(9)] {
+		c.Pods = append(c.Pods, api.Pod{Host: i % 4, Ip: ip, Space: m.IntN(4) * m.IntN(2), Labels: m.IntN(4)})
+	}
+	for range m.IntN(5) {
+		p := api.Policy{Space: m.IntN(4) * m.IntN(2), Selector: m.selector(), Ways: 1 + m.IntN(3)}
+		for range m.IntN(3) * (p.Ways % 2) {
+			p.Outs = append(p.Outs, m.rule())
+		}
+		for range m.IntN(3) * (p.Ways / 2) {
+			p.Ins = append(p.Ins, m.rule())
+		}
+		c.Policies = append(c.Policies, p)
+	}
+	return c
+}
+
+func TestAllowedAsTheModelSays(t *testing.T) {
+	m := maker{rand.New(rand.NewPCG(3, 4))}
+	answers := map[bool]int{}
+	for range 2000 {
+		c := m.cluster()
+		for range 100 {
+			p := api.Packet{Src: m.IntN(33), Dst: m.IntN(33), Proto: 1 + m.IntN(2), Port: m.IntN(7)}
+			if n := len(c.Pods); n > 0 && m.IntN(2) == 0 {
+				p.Src, p.Dst = c.Pods[m.IntN(n)].Ip, c.Pods[m.IntN(n)].Ip
+			}
+			want := modelAllowed(c, p)
+			answers[want]++
+			if a, e := Allowed(c, p); a != want || e != api.OK {
+				t.Fatalf("P4: Allowed(%+v, %+v) = %v, %d, want %v, OK", c, p, a, e, want)
+			}
+		}
+	}
+	if answers[true] < 20000 || answers[false] < 20000 {
+		t.Errorf("the packets try too little: %v", answers)
+	}
+}

@@ -1,0 +1,87 @@
+// Package palisade: who may talk to whom, in rows: see DOC.md.
+package palisade
+
+import (
+	"palisade/api"
+	"palisade/packet"
+	"palisade/pod"
+	"palisade/policy"
+)
+
+// Tables has the tables of all hosts.
+type Tables struct{}
+
+// Right tells whether a cluster is right (P3).
+func Right(c api.Cluster) (api.Errno, int) {
+	if len(c.Pods) > api.MaxPods || len(c.Policies) > api.MaxPolicies {
+		return api.ErrMany, 0
+	}
+	for i, p := range c.Pods {
+		if !pod.Right(p) || pod.Taken(c.Pods[:i], p.Ip) {
+			return api.ErrPod, i
+		}
+	}
+	for i, p := range c.Policies {
+		if !policy.Right(p) {
+			return api.ErrPolicy, i
+		}
+	}
+	return api.OK, 0
+}
+
+// Allowed tells whether a packet is allowed (P4).
+func Allowed(c api.Cluster, p api.Packet) (bool, api.Errno) {
+	if e, _ := Right(c); e != api.OK {
+		return false, e
+	}
+	if !packet.Right(p) {
+		return false, api.ErrPacket
+	}
+	return mayGo(c, api.Out, p) && mayGo(c, api.In, p), api.OK
+}
+
+// mayGo is one judgement for both ways: they differ only in which end of the packet is asked.
+func mayGo(c api.Cluster, way int, p api.Packet) bool {
+	near, _ := packet.Ends(p, way)
+	at, found := pod.At(c.Pods, near)
+	if !found {
+		return true
+	}
+	applied := false
+	for _, q := range c.Policies {
+		if !policy.Applies(q, way, at) {
+			continue
+		}
+		if policy.LetsGo(q, way, c.Pods, p) {
+			return true
+		}
+		applied = true
+	}
+	return !applied
+}
+
+// Compile makes the tables of a cluster (P5).
+func Compile(c api.Cluster) (*Tables, api.Errno, int) { return nil, api.OK, 0 }
+
+// Rows tells a table (P5).
+func (t *Tables) Rows(host int, way int) ([]api.Row, api.Errno) { return nil, api.OK }
+
+// Decide tells what decides of a packet in a table (P6).
+func (t *Tables) Decide(host int, way int, p api.Packet) (bool, int, api.Errno) {
+	return false, 0, api.OK
+}
+
+// Admits tells whether a packet is allowed (P7).
+func (t *Tables) Admits(p api.Packet) (bool, api.Errno) { return false, api.OK }
+
+// AddPod adds a pod (P8).
+func (t *Tables) AddPod(p api.Pod) api.Errno { return api.OK }
+
+// DropPod takes a pod away (P8).
+func (t *Tables) DropPod(ip int) api.Errno { return api.OK }
+
+// AddPolicy adds a policy (P8).
+func (t *Tables) AddPolicy(p api.Policy) api.Errno { return api.OK }
+
+// DropPolicy takes a policy away (P8).
+func (t *Tables) DropPolicy(i int) api.Errno { return api.OK }

@@ -1,0 +1,59 @@
+package peer
+
+import (
+	"testing"
+
+	"palisade/api"
+)
+
+func TestPods(t *testing.T) {
+	in := Scope{Space: 1, Pods: []api.Pod{
+		{Ip: 10, Space: 0, Labels: 1}, {Ip: 11, Space: 1, Labels: 1}, {Ip: 12, Space: 1, Labels: 3},
+		{Ip: 13, Space: 2, Labels: 1}, {Ip: 14, Space: 3, Labels: 1}, {Ip: 15, Space: 3, Labels: 2},
+	}}
+	for _, x := range []struct {
+		name string
+		peer api.Peer
+		want []int
+	}{
+		{"its own space", api.Peer{Kind: api.Pods}, []int{11, 12}},
+		{"its own space, by label", api.Peer{Kind: api.Pods, Selector: api.Selector{Need: 2}}, []int{12}},
+		{"its own space, but for a label", api.Peer{Kind: api.Pods, Selector: api.Selector{Ban: 2}}, []int{11}},
+		{"space 0", api.Peer{Kind: api.Pods, Spaces: 1}, []int{10}},
+		{"space 1", api.Peer{Kind: api.Pods, Spaces: 2}, []int{11, 12}},
+		{"space 2", api.Peer{Kind: api.Pods, Spaces: 4}, []int{13}},
+		{"space 3", api.Peer{Kind: api.Pods, Spaces: 8}, []int{14, 15}},
+		{"all spaces", api.Peer{Kind: api.Pods, Spaces: 15}, []int{10, 11, 12, 13, 14, 15}},
+		{"all spaces, by label", api.Peer{Kind: api.Pods, Spaces: 15, Selector: api.Selector{Need: 1, Ban: 2}}, []int{10, 11, 13, 14}},
+		{"nobody", api.Peer{Kind: api.Pods, Spaces: 15, Selector: api.Selector{Need: 1, Ban: 1}}, nil},
+	} {
+		wanted := map[int]bool{}
+		for _, ip := range x.want {
+			wanted[ip] = true
+		}
+		for ip := range 20 {
+			if got := Has(x.peer, ip, in); got != wanted[ip] {
+				t.Errorf("%s: has %d: %v", x.name, ip, got)
+			}
+		}
+	}
+}
+
+func TestBlocks(t *testing.T) {
+	peer := api.Peer{Kind: api.Blocks, Block: api.Block{Base: 16, Bits: 28}, Excepts: []api.Block{{Base: 20, Bits: 30}, {Base: 31, Bits: 32}}}
+	in := Scope{Pods: []api.Pod{{Ip: 20}, {Ip: 40}}}
+	for ip := range 64 {
+		want := ip >= 16 && ip < 31 && (ip < 20 || ip > 23)
+		if got := Has(peer, ip, in); got != want {
+			t.Errorf("has %d: %v", ip, got)
+		}
+	}
+}
+
+func TestNoKind(t *testing.T) {
+	for _, kind := range []int{-1, 0, 3} {
+		if p := (api.Peer{Kind: kind}); Right(p) || Has(p, 0, Scope{}) {
+			t.Errorf("a peer of kind %d is right or has an address", kind)
+		}
+	}
+}
