@@ -108,6 +108,12 @@ func TestRightOfRules(t *testing.T) {
 		pods := func(c *api.Cluster) *api.Peer { return &rule(c).Peers[0] }
 		blocks := func(c *api.Cluster) *api.Peer { return &rule(c).Peers[1] }
 		narrow := func(c *api.Cluster) *int { blocks(c).Block.Bits = 32; return &blocks(c).Block.Base }
+		except := func(i int) func(c *api.Cluster) *int {
+			return func(c *api.Cluster) *int {
+				blocks(c).Excepts[i].Bits = 32
+				return &blocks(c).Excepts[i].Base
+			}
+		}
 		whole := func(c *api.Cluster) *int { blocks(c).Block.Base = 0; return &blocks(c).Block.Bits }
 		for _, n := range []number{
 			{"Kind of pods", func(c *api.Cluster) *int { return &pods(c).Kind }, 1, 1},
@@ -122,6 +128,8 @@ func TestRightOfRules(t *testing.T) {
 			{"Spaces of blocks", func(c *api.Cluster) *int { return &blocks(c).Spaces }, 0, 0},
 			{"Base of blocks", narrow, 0, 1<<32 - 1},
 			{"Bits of blocks", whole, 0, 32},
+			{"Base of an except", except(0), 0, 1<<32 - 1},
+			{"Base of the other except", except(1), 0, 1<<32 - 1},
 			{"Bits of an except", func(c *api.Cluster) *int { return &blocks(c).Excepts[0].Bits }, 16, 32},
 			{"Bits of the other except", func(c *api.Cluster) *int { return &blocks(c).Excepts[1].Bits }, 23, 32},
 			{"Proto", func(c *api.Cluster) *int { return &rule(c).Ports[0].Proto }, 0, 2},
