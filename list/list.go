@@ -30,3 +30,14 @@ func EmptyOrAny[T any](l []T, holds func(T) bool) bool {
 func FewAll[T any](l []T, most int, holds func(T) bool) bool {
 	return len(l) <= most && All(l, holds)
 }
+
+// Keep gives a list of its own, so that the one handed in is never written into.
+func Keep[T any](l []T, holds func(T) bool) []T {
+	var kept []T
+	for _, x := range l {
+		if holds(x) {
+			kept = append(kept, x)
+		}
+	}
+	return kept
+}

@@ -1,6 +1,9 @@
 package list
 
-import "testing"
+import (
+	"slices"
+	"testing"
+)
 
 func even(n int) bool { return n%2 == 0 }
 
@@ -45,5 +48,20 @@ func TestFewAll(t *testing.T) {
 		if got := FewAll(x.l, x.most, func(s string) bool { return s != "" }); got != x.want {
 			t.Errorf("FewAll(%q, %d) = %v", x.l, x.most, got)
 		}
+	}
+}
+
+func TestKeep(t *testing.T) {
+	l := []int{1, 2, 3, 4, 5, 6}
+	kept := Keep(l, even)
+	if !slices.Equal(kept, []int{2, 4, 6}) {
+		t.Errorf("Keep gives %v", kept)
+	}
+	clear(kept[:cap(kept)])
+	if !slices.Equal(l, []int{1, 2, 3, 4, 5, 6}) {
+		t.Errorf("what Keep gives stands in the list that was handed in: %v", l)
+	}
+	if none := Keep(nil, even); len(none) != 0 {
+		t.Errorf("Keep of nothing gives %v", none)
 	}
 }

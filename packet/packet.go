@@ -21,6 +21,9 @@ func Ends(p api.Packet, way int) (near, far int) {
 // anyProto is no protocol of a packet: a port that has it fits all of them.
 const anyProto = 0
 
+// EveryPort fits every packet.
+func EveryPort() api.Port { return api.Port{Proto: anyProto, From: 0, To: bound.MaxPort} }
+
 func PortRight(p api.Port) bool {
 	return bound.Within(p.Proto, anyProto, api.Udp) && bound.Port(p.From) && bound.Port(p.To) && p.From <= p.To
 }

@@ -42,3 +42,16 @@ func TestEnds(t *testing.T) {
 		t.Errorf("Ends by In = %d, %d", near, far)
 	}
 }
+
+func TestEveryPort(t *testing.T) {
+	if !PortRight(EveryPort()) {
+		t.Errorf("%+v is no port", EveryPort())
+	}
+	for _, proto := range []int{api.Tcp, api.Udp} {
+		for _, number := range []int{0, 1, 65535} {
+			if !PortFits(EveryPort(), api.Packet{Proto: proto, Port: number}) {
+				t.Errorf("protocol %d, port %d is left out", proto, number)
+			}
+		}
+	}
+}

@@ -3,6 +3,7 @@ package palisade
 import (
 	"math"
 	"reflect"
+	"slices"
 	"testing"
 
 	"palisade/api"
@@ -75,9 +76,83 @@ func TestNothingHandedInIsWritten(t *testing.T) {
 		if e, at := Right(c); e != firstErr || at != firstAt {
 			t.Errorf("P2: %s: Right answers otherwise when asked again", name)
 		}
+		if x, e, _ := Compile(c); e == api.OK {
+			readAndSpoil(x)
+		}
 		if !reflect.DeepEqual(before, whole(reflect.ValueOf(c)).Interface()) {
 			t.Errorf("P2: %s: something handed in was written into", name)
 		}
+	}
+}
+
+// readAndSpoil asks tables all there is to ask, and writes over what they gave and its spare room.
+func readAndSpoil(x *Tables) {
+	for host := range api.Hosts {
+		for _, way := range []int{api.Out, api.In} {
+			x.Decide(host, way, tcp(one, two, 80))
+			rows, _ := x.Rows(host, way)
+			rows = rows[:cap(rows)]
+			for i := range rows {
+				rows[i] = api.Row{Proto: 9, Allow: i%2 == 0}
+			}
+		}
+	}
+	x.Admits(tcp(one, two, 80))
+}
+
+// expectSame asks tables again for what they told ahead.
+func expectSame(t *testing.T, name string, x read) {
+	t.Helper()
+	for at, was := range x.rows {
+		if rows, e := x.Rows(at.host, at.way); !slices.Equal(rows, was) || e != api.OK {
+			t.Errorf("P2: %s: the rows of %v are others now", name, at)
+		}
+	}
+	for _, p := range []api.Packet{tcp(one, two, 80), tcp(one, two, 91), tcp(stranger, two, 80), tcp(two, stranger, 1)} {
+		expectDecides(t, name, x, p)
+	}
+}
+
+func TestRowsAreTheCallersOwn(t *testing.T) {
+	for name, c := range map[string]api.Cluster{"the example": web(), "full": full(), "nothing": {}} {
+		x := compiled(t, c)
+		readAndSpoil(x.Tables)
+		expectSame(t, name, x)
+		again, _ := x.Rows(1, api.In)
+		was := slices.Clone(again)
+		readAndSpoil(x.Tables)
+		if !slices.Equal(again, was) {
+			t.Errorf("P2: %s: two lists of rows share memory", name)
+		}
+	}
+}
+
+func TestTablesKeepNothingHandedIn(t *testing.T) {
+	for name, fresh := range map[string]func() api.Cluster{"the example": web, "full": full} {
+		c := fresh()
+		roomy(reflect.ValueOf(&c).Elem())
+		x := compiled(t, c)
+		x.c = fresh()
+		setAll(reflect.ValueOf(&c).Elem(), 3)
+		expectSame(t, name, x)
+	}
+}
+
+func TestTablesHaveNothingToDoWithOneAnother(t *testing.T) {
+	c := web()
+	x, y := compiled(t, c), compiled(t, c)
+	c.Policies[0].Ins[0].Peers[0].Spaces = 3
+	z := compiled(t, c)
+	x.c, y.c = web(), web()
+	readAndSpoil(x.Tables)
+	expectSame(t, "the first", x)
+	expectSame(t, "one of the same cluster", y)
+	expectSame(t, "one of another cluster", z)
+	if a, _ := x.Admits(tcp(three, two, 80)); a {
+		t.Errorf("P2: tables follow another cluster's policies")
+	}
+	if a, _ := z.Admits(tcp(three, two, 80)); !a {
+		t.Errorf("P2: tables follow another cluster's policies")
 	}
 }
 
@@ -114,6 +189,19 @@ func TestNoNumberPanics(t *testing.T) {
 		}
 		if a, e := Allowed(full(), packet); a || e != api.ErrPacket {
 			t.Errorf("P1: all of the packet %d: Allowed = %v, %d", n, a, e)
+		}
+		if x, e, at := Compile(c); x != nil || e != api.ErrPolicy || at != 0 {
+			t.Errorf("P1: all policies %d: Compile = %p, %d, %d", n, x, e, at)
+		}
+		x := compiled(t, full())
+		if rows, e := x.Rows(n, n); rows != nil || e != api.ErrHost {
+			t.Errorf("P1: Rows(%d, %d) = %v, %d", n, n, rows, e)
+		}
+		if d, number, e := x.Decide(n, n, packet); d || number != 0 || e != api.ErrHost {
+			t.Errorf("P1: all %d: Decide = %v, %d, %d", n, d, number, e)
+		}
+		if a, e := x.Admits(packet); a || e != api.ErrPacket {
+			t.Errorf("P1: all of the packet %d: Admits = %v, %d", n, a, e)
 		}
 	}
 }

@@ -56,33 +56,60 @@ func modelRule(r api.Rule, space, far int, pods []api.Pod, p api.Packet) bool {
 	return peers && ports
 }
 
-func modelAllowed(c api.Cluster, p api.Packet) bool {
-	held := map[string]bool{}
-	open := map[string]bool{}
-	for _, q := range c.Pods {
-		for _, l := range c.Policies {
-			if l.Space != q.Space || !modelSelects(l.Selector, q.Labels) {
-				continue
-			}
-			if p.Src == q.Ip && (l.Ways == 1 || l.Ways == 3) {
-				held["out"] = true
-				for _, r := range l.Outs {
-					open["out"] = open["out"] || modelRule(r, l.Space, p.Dst, c.Pods, p)
-				}
-			}
-			if p.Dst == q.Ip && (l.Ways == 2 || l.Ways == 3) {
-				held["in"] = true
-				for _, r := range l.Ins {
-					open["in"] = open["in"] || modelRule(r, l.Space, p.Src, c.Pods, p)
-				}
-			}
+// modelGoes: of what one pod is held to, by the way that is asked.
+func modelGoes(c api.Cluster, q api.Pod, way int, p api.Packet) bool {
+	held, open := false, false
+	for _, l := range c.Policies {
+		if l.Space != q.Space || !modelSelects(l.Selector, q.Labels) || l.Ways != way && l.Ways != 3 {
+			continue
+		}
+		held = true
+		list, far := l.Outs, p.Dst
+		if way == 2 {
+			list, far = l.Ins, p.Src
+		}
+		for _, r := range list {
+			open = open || modelRule(r, l.Space, far, c.Pods, p)
 		}
 	}
-	return (!held["out"] || open["out"]) && (!held["in"] || open["in"])
+	return !held || open
 }
 
-// maker makes small clusters, so that their parts often meet; its seed is fixed.
-type maker struct{ *rand.Rand }
+// modelDecides: what the table of a host must say.
+func modelDecides(c api.Cluster, host, way int, p api.Packet) bool {
+	for _, q := range c.Pods {
+		if q.Host == host && (way == 1 && q.Ip == p.Src || way == 2 && q.Ip == p.Dst) {
+			return modelGoes(c, q, way, p)
+		}
+	}
+	return true
+}
+
+func modelAllowed(c api.Cluster, p api.Packet) bool {
+	for host := range 4 {
+		if !modelDecides(c, host, 1, p) || !modelDecides(c, host, 2, p) {
+			return false
+		}
+	}
+	return true
+}
+
+// maker makes small clusters, so that their parts often meet; its seed is fixed. All addresses lie near base, a number that ends in five bits of 0.
+type maker struct {
+	*rand.Rand
+	base int
+}
+
+const lastAddress = 1<<32 - 1
+
+// makers make their clusters at the least and at the greatest addresses, and where an address turns negative as an int32.
+func makers(seed uint64) []maker {
+	var l []maker
+	for _, base := range []int{0, lastAddress - 31, 1 << 31} {
+		l = append(l, maker{rand.New(rand.NewPCG(seed, uint64(base))), base})
+	}
+	return l
+}
 
 func (m maker) selector() api.Selector {
 	return api.Selector{Need: m.IntN(4) & m.IntN(4), Ban: m.IntN(4) & m.IntN(4) & m.IntN(4)}
@@ -93,7 +120,7 @@ func (m maker) block() api.Block {
 	if m.IntN(16) == 0 {
 		rest = 32
 	}
-	return api.Block{Base: m.IntN(32) >> rest << rest, Bits: 32 - rest}
+	return api.Block{Base: (m.base + m.IntN(32)) >> rest << rest, Bits: 32 - rest}
 }
 
 func (m maker) peer() api.Peer {
@@ -121,8 +148,9 @@ func (m maker) rule() api.Rule {
 
 func (m maker) cluster() api.Cluster {
 	var c api.Cluster
-	for i, ip := range m.Perm(32)[:m.IntN(9)] {
-		c.Pods = append(c.Pods, api.Pod{Host: i % 4, Ip: ip, Space: m.IntN(4) * m.IntN(2), Labels: m.IntN(4)})
+	hosts := 1 + m.IntN(4)
+	for _, n := range m.Perm(32)[:m.IntN(9)] {
+		c.Pods = append(c.Pods, api.Pod{Host: m.IntN(hosts), Ip: m.base + n, Space: m.IntN(4) * m.IntN(2), Labels: m.IntN(4)})
 	}
 	for range m.IntN(5) {
 		p := api.Policy{Space: m.IntN(4) * m.IntN(2), Selector: m.selector(), Ways: 1 + m.IntN(3)}
@@ -137,20 +165,28 @@ func (m maker) cluster() api.Cluster {
 	return c
 }
 
+// packet takes pods for its ends half of the time: strangers are seldom held back.
+func (m maker) packet(c api.Cluster) api.Packet {
+	end := func() int { return (m.base + m.IntN(34) - 1) & lastAddress }
+	p := api.Packet{Src: end(), Dst: end(), Proto: 1 + m.IntN(2), Port: m.IntN(7)}
+	if n := len(c.Pods); n > 0 && m.IntN(2) == 0 {
+		p.Src, p.Dst = c.Pods[m.IntN(n)].Ip, c.Pods[m.IntN(n)].Ip
+	}
+	return p
+}
+
 func TestAllowedAsTheModelSays(t *testing.T) {
-	m := maker{rand.New(rand.NewPCG(3, 4))}
 	answers := map[bool]int{}
-	for range 2000 {
-		c := m.cluster()
-		for range 100 {
-			p := api.Packet{Src: m.IntN(33), Dst: m.IntN(33), Proto: 1 + m.IntN(2), Port: m.IntN(7)}
-			if n := len(c.Pods); n > 0 && m.IntN(2) == 0 {
-				p.Src, p.Dst = c.Pods[m.IntN(n)].Ip, c.Pods[m.IntN(n)].Ip
-			}
-			want := modelAllowed(c, p)
-			answers[want]++
-			if a, e := Allowed(c, p); a != want || e != api.OK {
-				t.Fatalf("P4: Allowed(%+v, %+v) = %v, %d, want %v, OK", c, p, a, e, want)
+	for _, m := range makers(3) {
+		for range 1000 {
+			c := m.cluster()
+			for range 50 {
+				p := m.packet(c)
+				want := modelAllowed(c, p)
+				answers[want]++
+				if a, e := Allowed(c, p); a != want || e != api.OK {
+					t.Fatalf("P4: Allowed(%+v, %+v) = %v, %d, want %v, OK", c, p, a, e, want)
+				}
 			}
 		}
 	}

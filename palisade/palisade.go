@@ -2,14 +2,25 @@
 package palisade
 
 import (
+	"slices"
+
 	"palisade/api"
+	"palisade/list"
 	"palisade/packet"
 	"palisade/pod"
 	"palisade/policy"
+	"palisade/table"
 )
 
 // Tables has the tables of all hosts.
-type Tables struct{}
+type Tables struct {
+	rows map[place][]api.Row
+}
+
+// place is where a table stands: there are none but those of places.
+type place struct {
+	host, way int
+}
 
 // Right tells whether a cluster is right (P3).
 func Right(c api.Cluster) (api.Errno, int) {
@@ -47,32 +58,63 @@ func mayGo(c api.Cluster, way int, p api.Packet) bool {
 	if !found {
 		return true
 	}
-	applied := false
-	for _, q := range c.Policies {
-		if !policy.Applies(q, way, at) {
-			continue
-		}
-		if policy.LetsGo(q, way, c.Pods, p) {
-			return true
-		}
-		applied = true
-	}
-	return !applied
+	held := policy.Applying(c.Policies, way, at)
+	return list.EmptyOrAny(held, func(q api.Policy) bool { return policy.LetsGo(q, way, c.Pods, p) })
 }
 
 // Compile makes the tables of a cluster (P5).
-func Compile(c api.Cluster) (*Tables, api.Errno, int) { return nil, api.OK, 0 }
+func Compile(c api.Cluster) (*Tables, api.Errno, int) {
+	if e, at := Right(c); e != api.OK {
+		return nil, e, at
+	}
+	t := &Tables{rows: map[place][]api.Row{}}
+	for _, at := range places() {
+		t.rows[at] = table.Make(c, at.host, at.way)
+	}
+	return t, api.OK, 0
+}
+
+// places gives the keys in one order, so that no answer hangs on how a map is gone through.
+func places() []place {
+	var l []place
+	for host := range api.Hosts {
+		l = append(l, place{host, api.Out}, place{host, api.In})
+	}
+	return l
+}
 
 // Rows tells a table (P5).
-func (t *Tables) Rows(host int, way int) ([]api.Row, api.Errno) { return nil, api.OK }
+func (t *Tables) Rows(host int, way int) ([]api.Row, api.Errno) {
+	rows, found := t.rows[place{host, way}]
+	if !found {
+		return nil, api.ErrHost
+	}
+	return slices.Clone(rows), api.OK
+}
 
 // Decide tells what decides of a packet in a table (P6).
 func (t *Tables) Decide(host int, way int, p api.Packet) (bool, int, api.Errno) {
-	return false, 0, api.OK
+	rows, found := t.rows[place{host, way}]
+	if !found {
+		return false, 0, api.ErrHost
+	}
+	if !packet.Right(p) {
+		return false, 0, api.ErrPacket
+	}
+	allow, n := table.Decides(rows, p)
+	return allow, n, api.OK
 }
 
 // Admits tells whether a packet is allowed (P7).
-func (t *Tables) Admits(p api.Packet) (bool, api.Errno) { return false, api.OK }
+func (t *Tables) Admits(p api.Packet) (bool, api.Errno) {
+	if !packet.Right(p) {
+		return false, api.ErrPacket
+	}
+	return list.All(places(), func(at place) bool {
+		allow, _ := table.Decides(t.rows[at], p)
+		return allow
+	}), api.OK
+}
 
 // AddPod adds a pod (P8).
 func (t *Tables) AddPod(p api.Pod) api.Errno { return api.OK }

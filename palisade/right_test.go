@@ -12,6 +12,9 @@ func expectRight(t *testing.T, name string, c api.Cluster, want api.Errno, place
 	if e, at := Right(c); e != want || at != place {
 		t.Errorf("P3: %s: Right = %d, %d, want %d, %d", name, e, at, want, place)
 	}
+	if x, e, at := Compile(c); e != want || at != place || (x != nil) != (want == api.OK) {
+		t.Errorf("P5: %s: Compile = %p, %d, %d, want %d, %d", name, x, e, at, want, place)
+	}
 	if want == api.OK {
 		return
 	}
@@ -93,8 +96,8 @@ func TestRightOfPolicies(t *testing.T) {
 	}
 }
 
-// places gives a rule of each policy, way and number.
-func places(visit func(policy int, rule func(c *api.Cluster) *api.Rule)) {
+// everyRule gives a rule of each policy, way and number.
+func everyRule(visit func(policy int, rule func(c *api.Cluster) *api.Rule)) {
 	for i := range api.MaxPolicies {
 		for j := range api.MaxEach {
 			visit(i, func(c *api.Cluster) *api.Rule { return &c.Policies[i].Outs[j] })
@@ -104,7 +107,7 @@ func places(visit func(policy int, rule func(c *api.Cluster) *api.Rule)) {
 }
 
 func TestRightOfRules(t *testing.T) {
-	places(func(policy int, rule func(c *api.Cluster) *api.Rule) {
+	everyRule(func(policy int, rule func(c *api.Cluster) *api.Rule) {
 		pods := func(c *api.Cluster) *api.Peer { return &rule(c).Peers[0] }
 		blocks := func(c *api.Cluster) *api.Peer { return &rule(c).Peers[1] }
 		narrow := func(c *api.Cluster) *int { blocks(c).Block.Bits = 32; return &blocks(c).Block.Base }
@@ -145,7 +148,7 @@ func TestRightOfRules(t *testing.T) {
 }
 
 func TestRightOfBlocksWithOtherBits(t *testing.T) {
-	places(func(policy int, rule func(c *api.Cluster) *api.Rule) {
+	everyRule(func(policy int, rule func(c *api.Cluster) *api.Rule) {
 		for _, base := range []int{ip(10, 0, 0, 1), ip(10, 128, 0, 0), ip(10, 1, 0, 0)} {
 			c := full()
 			rule(&c).Peers[1].Block.Base = base
@@ -160,7 +163,7 @@ func TestRightOfBlocksWithOtherBits(t *testing.T) {
 }
 
 func TestRightOfLongLists(t *testing.T) {
-	places(func(policy int, rule func(c *api.Cluster) *api.Rule) {
+	everyRule(func(policy int, rule func(c *api.Cluster) *api.Rule) {
 		for name, lengthen := range map[string]func(c *api.Cluster){
 			"three peers": func(c *api.Cluster) { rule(c).Peers = append(rule(c).Peers, api.Peer{Kind: api.Pods}) },
 			"three ports": func(c *api.Cluster) { rule(c).Ports = append(rule(c).Ports, api.Port{}) },

@@ -20,6 +20,7 @@ type kind interface {
 	inBounds() bool
 	restEmpty() bool
 	has(ip int, in Scope) bool
+	blocks(in Scope) []api.Block
 }
 
 // kindOf answers false, if there is no such kind.
@@ -44,6 +45,15 @@ func Has(p api.Peer, ip int, in Scope) bool {
 	return ok && k.has(ip, in)
 }
 
+// Blocks gives the addresses that a right peer has, as blocks.
+func Blocks(p api.Peer, in Scope) []api.Block {
+	k, ok := kindOf(p)
+	if !ok {
+		return nil
+	}
+	return k.blocks(in)
+}
+
 type common struct{ api.Peer }
 
 // inBounds holds every field against its bounds, needed or not: what is 0 or empty lies within them.
@@ -57,9 +67,21 @@ type ofPods struct{ common }
 func (o ofPods) restEmpty() bool { return o.Block == (api.Block{}) && len(o.Excepts) == 0 }
 
 func (o ofPods) has(ip int, in Scope) bool {
+	return pod.Taken(o.chosen(in), ip)
+}
+
+func (o ofPods) blocks(in Scope) []api.Block {
+	var l []api.Block
+	for _, p := range o.chosen(in) {
+		l = append(l, block.One(p.Ip))
+	}
+	return l
+}
+
+func (o ofPods) chosen(in Scope) []api.Pod {
 	spaces := o.spacesFrom(in.Space)
-	return list.Any(in.Pods, func(p api.Pod) bool {
-		return p.Ip == ip && spaces&(1<<p.Space) != 0 && pod.Selects(o.Selector, p)
+	return list.Keep(in.Pods, func(p api.Pod) bool {
+		return spaces&(1<<p.Space) != 0 && pod.Selects(o.Selector, p)
 	})
 }
 
@@ -78,3 +100,5 @@ func (o ofBlocks) has(ip int, _ Scope) bool {
 	hasIt := func(b api.Block) bool { return block.Has(b, ip) }
 	return hasIt(o.Block) && !list.Any(o.Excepts, hasIt)
 }
+
+func (o ofBlocks) blocks(Scope) []api.Block { return block.Without(o.Block, o.Excepts) }

@@ -1,6 +1,7 @@
 package peer
 
 import (
+	"slices"
 	"testing"
 
 	"palisade/api"
@@ -36,6 +37,13 @@ func TestPods(t *testing.T) {
 				t.Errorf("%s: has %d: %v", x.name, ip, got)
 			}
 		}
+		var blocks []api.Block
+		for _, ip := range x.want {
+			blocks = append(blocks, api.Block{Base: ip, Bits: 32})
+		}
+		if got := Blocks(x.peer, in); !slices.Equal(got, blocks) {
+			t.Errorf("%s: blocks %v, want %v", x.name, got, blocks)
+		}
 	}
 }
 
@@ -47,12 +55,16 @@ func TestBlocks(t *testing.T) {
 		if got := Has(peer, ip, in); got != want {
 			t.Errorf("has %d: %v", ip, got)
 		}
+		one := func(b api.Block) bool { return b.Base <= ip && ip < b.Base+1<<(32-b.Bits) }
+		if got := slices.ContainsFunc(Blocks(peer, in), one); got != want {
+			t.Errorf("a block has %d: %v", ip, got)
+		}
 	}
 }
 
 func TestNoKind(t *testing.T) {
 	for _, kind := range []int{-1, 0, 3} {
-		if p := (api.Peer{Kind: kind}); Right(p) || Has(p, 0, Scope{}) {
+		if p := (api.Peer{Kind: kind}); Right(p) || Has(p, 0, Scope{}) || len(Blocks(p, Scope{})) > 0 {
 			t.Errorf("a peer of kind %d is right or has an address", kind)
 		}
 	}

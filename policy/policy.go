@@ -3,6 +3,7 @@ package policy
 
 import (
 	"palisade/api"
+	"palisade/block"
 	"palisade/bound"
 	"palisade/list"
 	"palisade/packet"
@@ -40,6 +41,11 @@ func Applies(p api.Policy, way int, to api.Pod) bool {
 	return p.Ways&way != 0 && p.Space == to.Space && pod.Selects(p.Selector, to)
 }
 
+// Applying gives none for a pod that nothing holds back.
+func Applying(l []api.Policy, way int, to api.Pod) []api.Policy {
+	return list.Keep(l, func(p api.Policy) bool { return Applies(p, way, to) })
+}
+
 // LetsGo asks the rules only; whether the policy applies is asked ahead.
 func LetsGo(p api.Policy, way int, pods []api.Pod, k api.Packet) bool {
 	_, far := packet.Ends(k, way)
@@ -57,4 +63,43 @@ func rules(p api.Policy, way int) []api.Rule {
 func ruleFits(r api.Rule, in peer.Scope, far int, k api.Packet) bool {
 	return list.EmptyOrAny(r.Peers, func(p api.Peer) bool { return peer.Has(p, far, in) }) &&
 		list.EmptyOrAny(r.Ports, func(p api.Port) bool { return packet.PortFits(p, k) })
+}
+
+// Gap lets go what has its other end in a block, by a port.
+type Gap struct {
+	Far  api.Block
+	Port api.Port
+}
+
+// Gaps tells what LetsGo tells, for all packets at once.
+func Gaps(p api.Policy, way int, pods []api.Pod) []Gap {
+	in := peer.Scope{Space: p.Space, Pods: pods}
+	var l []Gap
+	for _, r := range rules(p, way) {
+		for _, far := range fars(r, in) {
+			for _, port := range ports(r) {
+				l = append(l, Gap{far, port})
+			}
+		}
+	}
+	return l
+}
+
+// fars asks whether there are peers, not whether they have addresses: peers that have none let nothing go.
+func fars(r api.Rule, in peer.Scope) []api.Block {
+	if len(r.Peers) == 0 {
+		return []api.Block{block.All()}
+	}
+	var l []api.Block
+	for _, p := range r.Peers {
+		l = append(l, peer.Blocks(p, in)...)
+	}
+	return l
+}
+
+func ports(r api.Rule) []api.Port {
+	if len(r.Ports) == 0 {
+		return []api.Port{packet.EveryPort()}
+	}
+	return r.Ports
 }

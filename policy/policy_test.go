@@ -1,6 +1,7 @@
 package policy
 
 import (
+	"slices"
 	"testing"
 
 	"palisade/api"
@@ -56,6 +57,59 @@ func TestLetsGo(t *testing.T) {
 	} {
 		if got := LetsGo(p, x.way, nil, api.Packet{Src: x.src, Dst: x.dst, Proto: api.Tcp}); got != x.want {
 			t.Errorf("way %d, from %d to %d: %v", x.way, x.src, x.dst, got)
+		}
+	}
+}
+
+func TestApplying(t *testing.T) {
+	l := []api.Policy{{Space: 1, Ways: 3}, {Ways: api.Out}, {Ways: api.In}, {Ways: 3, Selector: api.Selector{Need: 1}}, {Ways: 3}}
+	for way, want := range map[int][]int{api.Out: {1, 4}, api.In: {2, 4}} {
+		got := Applying(l, way, api.Pod{})
+		if len(got) != len(want) {
+			t.Fatalf("way %d: %+v", way, got)
+		}
+		for i, n := range want {
+			if got[i].Ways != l[n].Ways || got[i].Space != 0 || got[i].Selector.Need != 0 {
+				t.Errorf("way %d: %+v", way, got)
+			}
+		}
+	}
+	if got := Applying(l, api.Out, api.Pod{Space: 2}); len(got) != 0 {
+		t.Errorf("a pod of another space: %+v", got)
+	}
+}
+
+func TestGaps(t *testing.T) {
+	web, dns := api.Port{Proto: api.Tcp, From: 80, To: 90}, api.Port{Proto: api.Udp, From: 53, To: 53}
+	every := api.Port{From: 0, To: 65535}
+	pods := []api.Pod{{Ip: 5, Space: 2, Labels: 1}, {Ip: 6, Space: 2}, {Ip: 7}}
+	mine := api.Peer{Kind: api.Pods}
+	nobody := api.Peer{Kind: api.Pods, Selector: api.Selector{Need: 128}}
+	half := api.Peer{Kind: api.Blocks, Excepts: []api.Block{{Base: 1 << 31, Bits: 1}}}
+	five, six, low := api.Block{Base: 5, Bits: 32}, api.Block{Base: 6, Bits: 32}, api.Block{Bits: 1}
+	for _, x := range []struct {
+		name  string
+		rules []api.Rule
+		want  []Gap
+	}{
+		{"no rules", nil, nil},
+		{"a rule of nothing", []api.Rule{{}}, []Gap{{api.Block{}, every}}},
+		{"ports", []api.Rule{{Ports: []api.Port{web, dns}}}, []Gap{{api.Block{}, web}, {api.Block{}, dns}}},
+		{"peers", []api.Rule{{Peers: []api.Peer{mine, half}}}, []Gap{{five, every}, {six, every}, {low, every}}},
+		{"peers and ports", []api.Rule{{Peers: []api.Peer{mine}, Ports: []api.Port{web, dns}}}, []Gap{{five, web}, {five, dns}, {six, web}, {six, dns}}},
+		{"peers that have nothing", []api.Rule{{Peers: []api.Peer{nobody}, Ports: []api.Port{web}}}, nil},
+		{"two rules", []api.Rule{{Ports: []api.Port{web}}, {Peers: []api.Peer{half}}}, []Gap{{api.Block{}, web}, {low, every}}},
+	} {
+		out := api.Policy{Space: 2, Ways: 3, Outs: x.rules}
+		in := api.Policy{Space: 2, Ways: 3, Ins: x.rules}
+		if got := Gaps(out, api.Out, pods); !slices.Equal(got, x.want) {
+			t.Errorf("%s: Out: %v, want %v", x.name, got, x.want)
+		}
+		if got := Gaps(in, api.In, pods); !slices.Equal(got, x.want) {
+			t.Errorf("%s: In: %v, want %v", x.name, got, x.want)
+		}
+		if len(Gaps(out, api.In, pods)) != 0 || len(Gaps(in, api.Out, pods)) != 0 {
+			t.Errorf("%s: the other way's rules", x.name)
 		}
 	}
 }
