@@ -31,6 +31,15 @@ func FewAll[T any](l []T, most int, holds func(T) bool) bool {
 	return len(l) <= most && All(l, holds)
 }
 
+// Map gives a list of its own, as Keep does.
+func Map[A, B any](l []A, of func(A) B) []B {
+	var made []B
+	for _, x := range l {
+		made = append(made, of(x))
+	}
+	return made
+}
+
 // Keep gives a list of its own, so that the one handed in is never written into.
 func Keep[T any](l []T, holds func(T) bool) []T {
 	var kept []T

@@ -2,6 +2,7 @@ package list
 
 import (
 	"slices"
+	"strconv"
 	"testing"
 )
 
@@ -63,5 +64,20 @@ func TestKeep(t *testing.T) {
 	}
 	if none := Keep(nil, even); len(none) != 0 {
 		t.Errorf("Keep of nothing gives %v", none)
+	}
+}
+
+func TestMap(t *testing.T) {
+	l := []int{1, 2, 3}
+	if made := Map(l, strconv.Itoa); !slices.Equal(made, []string{"1", "2", "3"}) {
+		t.Errorf("Map gives %q", made)
+	}
+	same := Map(l, func(n int) int { return n })
+	clear(same[:cap(same)])
+	if !slices.Equal(l, []int{1, 2, 3}) {
+		t.Errorf("what Map gives stands in the list that was handed in: %v", l)
+	}
+	if none := Map(nil, even); len(none) != 0 {
+		t.Errorf("Map of nothing gives %v", none)
 	}
 }

@@ -156,6 +156,102 @@ func TestTablesHaveNothingToDoWithOneAnother(t *testing.T) {
 	}
 }
 
+// changeAll lets each of the four changes be refused, and makes each, to the cluster beside the tables too.
+func changeAll(x *Tables, c *api.Cluster, p api.Policy) {
+	nine := api.Pod{Host: 2, Ip: 9, Labels: 5}
+	x.AddPod(api.Pod{Ip: -1})
+	x.DropPod(-1)
+	x.AddPolicy(api.Policy{Ways: 4, Outs: p.Outs, Ins: p.Ins})
+	x.DropPolicy(-1)
+	x.DropPod(c.Pods[1].Ip)
+	x.DropPolicy(0)
+	x.AddPolicy(p)
+	x.AddPod(nine)
+	c.Pods = slices.Concat(c.Pods[:1], c.Pods[2:], []api.Pod{nine})
+	c.Policies = slices.Concat(c.Policies[1:], []api.Policy{p})
+}
+
+func bothWays() api.Policy {
+	return api.Policy{Ways: 3, Outs: []api.Rule{fullRule(), fullRule()}, Ins: []api.Rule{fullRule(), fullRule()}}
+}
+
+func TestChangesWriteNothingHandedIn(t *testing.T) {
+	for name, c := range map[string]api.Cluster{"the example": web(), "full": full()} {
+		p := bothWays()
+		roomy(reflect.ValueOf(&c).Elem())
+		roomy(reflect.ValueOf(&p).Elem())
+		cluster, policy := whole(reflect.ValueOf(c)).Interface(), whole(reflect.ValueOf(p)).Interface()
+		x, copied := compiled(t, c), c
+		changeAll(x.Tables, &copied, p)
+		if e := x.AddPolicy(p); name == "full" && e != api.ErrMany || name != "full" && e != api.OK {
+			t.Errorf("P8: %s: AddPolicy = %d", name, e)
+		}
+		x.DropPolicy(0)
+		if !reflect.DeepEqual(cluster, whole(reflect.ValueOf(c)).Interface()) {
+			t.Errorf("P2: %s: the cluster handed in was written into", name)
+		}
+		if !reflect.DeepEqual(policy, whole(reflect.ValueOf(p)).Interface()) {
+			t.Errorf("P2: %s: the policy handed in was written into", name)
+		}
+	}
+}
+
+// A change makes the tables anew: it must not find what the caller has written into his lists since.
+func TestChangesKeepNothingHandedIn(t *testing.T) {
+	for name, fresh := range map[string]func() api.Cluster{"the example": web, "full": full} {
+		c, p := fresh(), bothWays()
+		roomy(reflect.ValueOf(&c).Elem())
+		roomy(reflect.ValueOf(&p).Elem())
+		h := changing{t, compiled(t, c).Tables, fresh()}
+		setAll(reflect.ValueOf(&c).Elem(), 3)
+		h.dropPod(fresh().Pods[0].Ip)
+		h.dropPolicy(0)
+		if e := h.x.AddPolicy(p); e != api.OK {
+			t.Errorf("P8: %s: AddPolicy = %d", name, e)
+		}
+		h.c.Policies = append(h.c.Policies, bothWays())
+		setAll(reflect.ValueOf(&p).Elem(), 3)
+		h.expectOf(name)
+		h.addPod(api.Pod{Host: 2, Ip: 9, Labels: 5})
+		h.dropPod(9)
+	}
+}
+
+func TestChangesLeaveRowsToTheirCaller(t *testing.T) {
+	for name, c := range map[string]api.Cluster{"the example": web(), "full": full()} {
+		x := compiled(t, c)
+		was := map[place][]api.Row{}
+		for at, rows := range x.rows {
+			was[at] = slices.Clone(rows)
+		}
+		changeAll(x.Tables, &c, bothWays())
+		if !reflect.DeepEqual(x.rows, was) {
+			t.Errorf("P2: %s: a change wrote into rows that were given ahead of it", name)
+		}
+		h := changing{t, x.Tables, c}
+		h.expectOf(name)
+		readAndSpoil(x.Tables)
+		h.dropPod(9)
+		h.expectOf(name)
+	}
+}
+
+func TestChangesOfOneTablesOnly(t *testing.T) {
+	for name, c := range map[string]api.Cluster{"the example": web(), "full": full()} {
+		roomy(reflect.ValueOf(&c).Elem())
+		p := bothWays()
+		x, y, z := changing{t, compiled(t, c).Tables, c}, changing{t, compiled(t, c).Tables, c}, changing{t, compiled(t, c).Tables, c}
+		changeAll(x.x, &x.c, p)
+		z.expectOf(name + ": while another changes")
+		changeAll(y.x, &y.c, p)
+		x.dropPod(9)
+		x.dropPolicy(0)
+		x.expectOf(name + ": the first")
+		y.expectOf(name + ": the second")
+		z.expectOf(name + ": one that nobody changes")
+	}
+}
+
 // setAll puts one number everywhere, so that every shift and index of the program meets it.
 func setAll(v reflect.Value, n int) {
 	switch v.Kind() {
@@ -203,5 +299,18 @@ func TestNoNumberPanics(t *testing.T) {
 		if a, e := x.Admits(packet); a || e != api.ErrPacket {
 			t.Errorf("P1: all of the packet %d: Admits = %v, %d", n, a, e)
 		}
+		expectNumbersRefused(t, n)
 	}
+}
+
+func expectNumbersRefused(t *testing.T, n int) {
+	t.Helper()
+	h := changingOf(t, web())
+	p, q := api.Pod{}, bothWays()
+	setAll(reflect.ValueOf(&p).Elem(), n)
+	setAll(reflect.ValueOf(&q).Elem(), n)
+	h.expectRefused("a pod of one number", h.x.AddPod(p), api.ErrPod)
+	h.expectRefused("a policy of one number", h.x.AddPolicy(q), api.ErrPolicy)
+	h.expectRefused("nobody", h.x.DropPod(n), api.ErrNone)
+	h.expectRefused("no policy", h.x.DropPolicy(n), api.ErrNone)
 }

@@ -146,21 +146,32 @@ func (m maker) rule() api.Rule {
 	return r
 }
 
+// pod leaves the address to be chosen.
+func (m maker) pod(hosts int) api.Pod {
+	return api.Pod{Host: m.IntN(hosts), Space: m.IntN(4) * m.IntN(2), Labels: m.IntN(4)}
+}
+
+func (m maker) policy() api.Policy {
+	p := api.Policy{Space: m.IntN(4) * m.IntN(2), Selector: m.selector(), Ways: 1 + m.IntN(3)}
+	for range m.IntN(3) * (p.Ways % 2) {
+		p.Outs = append(p.Outs, m.rule())
+	}
+	for range m.IntN(3) * (p.Ways / 2) {
+		p.Ins = append(p.Ins, m.rule())
+	}
+	return p
+}
+
 func (m maker) cluster() api.Cluster {
 	var c api.Cluster
 	hosts := 1 + m.IntN(4)
 	for _, n := range m.Perm(32)[:m.IntN(9)] {
-		c.Pods = append(c.Pods, api.Pod{Host: m.IntN(hosts), Ip: m.base + n, Space: m.IntN(4) * m.IntN(2), Labels: m.IntN(4)})
+		p := m.pod(hosts)
+		p.Ip = m.base + n
+		c.Pods = append(c.Pods, p)
 	}
 	for range m.IntN(5) {
-		p := api.Policy{Space: m.IntN(4) * m.IntN(2), Selector: m.selector(), Ways: 1 + m.IntN(3)}
-		for range m.IntN(3) * (p.Ways % 2) {
-			p.Outs = append(p.Outs, m.rule())
-		}
-		for range m.IntN(3) * (p.Ways / 2) {
-			p.Ins = append(p.Ins, m.rule())
-		}
-		c.Policies = append(c.Policies, p)
+		c.Policies = append(c.Policies, m.policy())
 	}
 	return c
 }

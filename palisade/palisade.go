@@ -5,6 +5,7 @@ import (
 	"slices"
 
 	"palisade/api"
+	"palisade/bound"
 	"palisade/list"
 	"palisade/packet"
 	"palisade/pod"
@@ -12,9 +13,10 @@ import (
 	"palisade/table"
 )
 
-// Tables has the tables of all hosts.
+// Tables has the tables of all hosts, and the cluster that they are of: a change needs all of it, as what a peer has hangs on every pod.
 type Tables struct {
-	rows map[place][]api.Row
+	cluster api.Cluster
+	rows    map[place][]api.Row
 }
 
 // place is where a table stands: there are none but those of places.
@@ -64,14 +66,24 @@ func mayGo(c api.Cluster, way int, p api.Packet) bool {
 
 // Compile makes the tables of a cluster (P5).
 func Compile(c api.Cluster) (*Tables, api.Errno, int) {
-	if e, at := Right(c); e != api.OK {
+	t := &Tables{}
+	if e, at := t.become(c); e != api.OK {
 		return nil, e, at
 	}
-	t := &Tables{rows: map[place][]api.Row{}}
-	for _, at := range places() {
-		t.rows[at] = table.Make(c, at.host, at.way)
-	}
 	return t, api.OK, 0
+}
+
+// become makes everything anew, so that nothing is left of the cluster ahead; a cluster that is not right leaves all as it is. The lists handed in may be a caller's: what is kept is a copy.
+func (t *Tables) become(c api.Cluster) (api.Errno, int) {
+	if e, at := Right(c); e != api.OK {
+		return e, at
+	}
+	t.cluster = api.Cluster{Pods: slices.Clone(c.Pods), Policies: list.Map(c.Policies, policy.Copy)}
+	t.rows = map[place][]api.Row{}
+	for _, at := range places() {
+		t.rows[at] = table.Make(t.cluster, at.host, at.way)
+	}
+	return api.OK, 0
 }
 
 // places gives the keys in one order, so that no answer hangs on how a map is gone through.
@@ -116,14 +128,42 @@ func (t *Tables) Admits(p api.Packet) (bool, api.Errno) {
 	}), api.OK
 }
 
-// AddPod adds a pod (P8).
-func (t *Tables) AddPod(p api.Pod) api.Errno { return api.OK }
+// follow is become for the changes, which tell no place.
+func (t *Tables) follow(c api.Cluster) api.Errno {
+	e, _ := t.become(c)
+	return e
+}
+
+// AddPod adds a pod (P8). The cluster being right so far, the errors of Right are those of the pod, in their order.
+func (t *Tables) AddPod(p api.Pod) api.Errno {
+	c := t.cluster
+	c.Pods = slices.Concat(c.Pods, []api.Pod{p})
+	return t.follow(c)
+}
 
 // DropPod takes a pod away (P8).
-func (t *Tables) DropPod(ip int) api.Errno { return api.OK }
+func (t *Tables) DropPod(ip int) api.Errno {
+	c := t.cluster
+	if !pod.Taken(c.Pods, ip) {
+		return api.ErrNone
+	}
+	c.Pods = list.Keep(c.Pods, func(p api.Pod) bool { return p.Ip != ip })
+	return t.follow(c)
+}
 
-// AddPolicy adds a policy (P8).
-func (t *Tables) AddPolicy(p api.Policy) api.Errno { return api.OK }
+// AddPolicy adds a policy (P8). Its errors are those of Right, as AddPod's are.
+func (t *Tables) AddPolicy(p api.Policy) api.Errno {
+	c := t.cluster
+	c.Policies = slices.Concat(c.Policies, []api.Policy{p})
+	return t.follow(c)
+}
 
 // DropPolicy takes a policy away (P8).
-func (t *Tables) DropPolicy(i int) api.Errno { return api.OK }
+func (t *Tables) DropPolicy(i int) api.Errno {
+	c := t.cluster
+	if !bound.Within(i, 0, len(c.Policies)-1) {
+		return api.ErrNone
+	}
+	c.Policies = slices.Concat(c.Policies[:i], c.Policies[i+1:])
+	return t.follow(c)
+}

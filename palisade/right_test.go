@@ -2,6 +2,7 @@ package palisade
 
 import (
 	"math"
+	"reflect"
 	"testing"
 
 	"palisade/api"
@@ -15,11 +16,51 @@ func expectRight(t *testing.T, name string, c api.Cluster, want api.Errno, place
 	if x, e, at := Compile(c); e != want || at != place || (x != nil) != (want == api.OK) {
 		t.Errorf("P5: %s: Compile = %p, %d, %d, want %d, %d", name, x, e, at, want, place)
 	}
+	expectAdded(t, name, c, want, place)
 	if want == api.OK {
 		return
 	}
 	if a, e := Allowed(c, api.Packet{Proto: api.Tcp}); a || e != want {
 		t.Errorf("P4: %s: Allowed = %v, %d, want false, %d", name, a, e, want)
+	}
+}
+
+// expectAdded comes to a cluster step by step, as far as it is right.
+func expectAdded(t *testing.T, name string, c api.Cluster, want api.Errno, place int) {
+	t.Helper()
+	pods, policies := c.Pods, c.Policies
+	switch want {
+	case api.ErrMany:
+		return
+	case api.ErrPod:
+		pods, policies = pods[:place], nil
+	case api.ErrPolicy:
+		policies = policies[:place]
+	}
+	x := compiled(t, api.Cluster{})
+	for i, p := range pods {
+		if e := x.AddPod(p); e != api.OK {
+			t.Errorf("P8: %s: AddPod of pod %d = %d", name, i, e)
+		}
+	}
+	for i, p := range policies {
+		if e := x.AddPolicy(p); e != api.OK {
+			t.Errorf("P8: %s: AddPolicy of policy %d = %d", name, i, e)
+		}
+	}
+	if want == api.ErrPod {
+		if e := x.AddPod(c.Pods[place]); e != want {
+			t.Errorf("P8: %s: AddPod = %d, want ErrPod", name, e)
+		}
+	}
+	if want == api.ErrPolicy {
+		if e := x.AddPolicy(c.Policies[place]); e != want {
+			t.Errorf("P8: %s: AddPolicy = %d, want ErrPolicy", name, e)
+		}
+	}
+	so := api.Cluster{Pods: pods, Policies: policies}
+	if !reflect.DeepEqual(readOf(t, x.Tables, so).rows, compiled(t, so).rows) {
+		t.Errorf("P8: %s: the tables are not those of the cluster as it is", name)
 	}
 }
 

@@ -21,6 +21,12 @@ func compiled(t *testing.T, c api.Cluster) read {
 	if x == nil || e != api.OK || at != 0 {
 		t.Fatalf("P5: Compile(%+v) = %p, %d, %d", c, x, e, at)
 	}
+	return readOf(t, x, c)
+}
+
+// readOf reads tables that should be those of a cluster.
+func readOf(t *testing.T, x *Tables, c api.Cluster) read {
+	t.Helper()
 	out := read{x, c, map[place][]api.Row{}}
 	for host := range 4 {
 		for way := 1; way <= 2; way++ {

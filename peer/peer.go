@@ -2,6 +2,8 @@
 package peer
 
 import (
+	"slices"
+
 	"palisade/api"
 	"palisade/block"
 	"palisade/bound"
@@ -54,6 +56,12 @@ func Blocks(p api.Peer, in Scope) []api.Block {
 	return k.blocks(in)
 }
 
+// Copy shares no memory with the peer.
+func Copy(p api.Peer) api.Peer {
+	p.Excepts = slices.Clone(p.Excepts)
+	return p
+}
+
 type common struct{ api.Peer }
 
 // inBounds holds every field against its bounds, needed or not: what is 0 or empty lies within them.
@@ -71,11 +79,7 @@ func (o ofPods) has(ip int, in Scope) bool {
 }
 
 func (o ofPods) blocks(in Scope) []api.Block {
-	var l []api.Block
-	for _, p := range o.chosen(in) {
-		l = append(l, block.One(p.Ip))
-	}
-	return l
+	return list.Map(o.chosen(in), func(p api.Pod) api.Block { return block.One(p.Ip) })
 }
 
 func (o ofPods) chosen(in Scope) []api.Pod {

@@ -69,3 +69,15 @@ func TestNoKind(t *testing.T) {
 		}
 	}
 }
+
+func TestCopySharesNothing(t *testing.T) {
+	p := api.Peer{Kind: api.Blocks, Block: api.Block{Bits: 1}, Excepts: []api.Block{{Bits: 2}, {Bits: 3}}}
+	was := Copy(p)
+	p.Excepts[0].Bits = 4
+	if !slices.Equal(was.Excepts, []api.Block{{Bits: 2}, {Bits: 3}}) || was.Kind != api.Blocks || was.Block.Bits != 1 {
+		t.Errorf("Copy gives %+v", was)
+	}
+	if none := Copy(api.Peer{Kind: api.Pods, Selector: api.Selector{Need: 1}, Spaces: 5}); none.Selector.Need != 1 || none.Spaces != 5 || len(none.Excepts) != 0 {
+		t.Errorf("Copy gives %+v", none)
+	}
+}

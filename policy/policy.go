@@ -2,6 +2,8 @@
 package policy
 
 import (
+	"slices"
+
 	"palisade/api"
 	"palisade/block"
 	"palisade/bound"
@@ -35,6 +37,16 @@ func mostRules(ways int) (outs, ins int) {
 
 func ruleRight(r api.Rule) bool {
 	return list.FewAll(r.Peers, api.MaxEach, peer.Right) && list.FewAll(r.Ports, api.MaxEach, packet.PortRight)
+}
+
+// Copy shares no memory with the policy, nor do its rules and peers.
+func Copy(p api.Policy) api.Policy {
+	p.Outs, p.Ins = list.Map(p.Outs, copyRule), list.Map(p.Ins, copyRule)
+	return p
+}
+
+func copyRule(r api.Rule) api.Rule {
+	return api.Rule{Peers: list.Map(r.Peers, peer.Copy), Ports: slices.Clone(r.Ports)}
 }
 
 func Applies(p api.Policy, way int, to api.Pod) bool {

@@ -1,6 +1,7 @@
 package policy
 
 import (
+	"reflect"
 	"slices"
 	"testing"
 
@@ -110,6 +111,32 @@ func TestGaps(t *testing.T) {
 		}
 		if len(Gaps(out, api.In, pods)) != 0 || len(Gaps(in, api.Out, pods)) != 0 {
 			t.Errorf("%s: the other way's rules", x.name)
+		}
+	}
+}
+
+func TestCopySharesNothing(t *testing.T) {
+	rules := func(n int) []api.Rule {
+		return []api.Rule{
+			{Peers: []api.Peer{{Kind: api.Pods, Spaces: n}, {Kind: api.Blocks, Excepts: []api.Block{{Bits: n}}}}, Ports: []api.Port{{To: n}, {To: n + 1}}},
+			{Ports: []api.Port{{From: n, To: n}}},
+		}
+	}
+	fresh := func() api.Policy {
+		return api.Policy{Space: 2, Selector: api.Selector{Need: 1, Ban: 2}, Ways: 3, Outs: rules(1), Ins: rules(5)}
+	}
+	for name, write := range map[string]func(l []api.Rule){
+		"rules":   func(l []api.Rule) { l[1] = api.Rule{} },
+		"peers":   func(l []api.Rule) { l[0].Peers[0].Spaces = 9 },
+		"excepts": func(l []api.Rule) { l[0].Peers[1].Excepts[0].Bits = 9 },
+		"ports":   func(l []api.Rule) { l[0].Ports[1].To = 9 },
+	} {
+		p := fresh()
+		was := Copy(p)
+		write(p.Outs)
+		write(p.Ins)
+		if !reflect.DeepEqual(was, fresh()) {
+			t.Errorf("%s: Copy gives %+v", name, was)
 		}
 	}
 }
